@@ -1,0 +1,1 @@
+"""Copymeet: many desks, one reading."""

@@ -1,0 +1,71 @@
+"""Deeds for the tests, and lists of deeds by a chance that is the same each time."""
+
+import random
+
+COUNT = ("ann", 1)
+BIG = 10 ** 12 - 1
+GREAT_AMOUNT = 10 ** 40 - 1
+
+
+def deed(hand, n, act=("add", COUNT, 1), **others):
+    """A deed with its own hand's pair as [7] asks, and the pairs of others beside."""
+    pairs = dict(others)
+    if n > 1:
+        pairs[hand] = n - 1
+    return ((hand, n), tuple(sorted(pairs.items())), act)
+
+
+def add(hand, n, **others):
+    return deed(hand, n, **others)
+
+
+def back(hand, n, first, last, **others):
+    return deed(hand, n, ("back", first, last), **others)
+
+
+def settle(hand, n, **others):
+    return deed(hand, n, ("settle",), **others)
+
+
+def names(deeds):
+    return [one[0] for one in deeds]
+
+
+def some_seen(chance, hands, greatest):
+    """A seen of some of the hands."""
+    return tuple(sorted((hand, chance.randint(1, greatest)) for hand in hands if chance.random() < 0.6))
+
+
+def some_act(chance, n, numbers):
+    """Mostly backs, that end around the numbers given, and now and then a settle."""
+    roll = chance.random()
+    if roll < 0.12:
+        return ("settle",)
+    if roll < 0.6:
+        first = max(1, chance.choice(numbers) + chance.randint(-1, 1))
+        last = max(1, chance.choice(numbers + [n]) + chance.randint(-1, 1))
+        return ("back", first, last)
+    return ("add", COUNT, chance.randint(-5, 5))
+
+
+def some_hand(chance, hand, others, step):
+    """Deeds of one hand, with gaps between their numbers, that are multiples of step and neighbours of such."""
+    numbers = sorted({max(1, step * chance.randint(0, 12) + chance.randint(0, 1)) for turn in range(14)})
+    made = []
+    for n in numbers:
+        seen = dict(some_seen(chance, others, 12 * step))
+        made.append(deed(hand, n, some_act(chance, n, numbers), **seen))
+    return made
+
+
+def some_list(seed):
+    """A list of deeds of some hands, in any order, some told twice."""
+    chance = random.Random(seed)
+    hands = chance.sample(["an", "ann", "anna", "bob", "z"], chance.randint(1, 3))
+    step = chance.choice([1, 1, 2, 10 ** 10])
+    made = []
+    for hand in hands:
+        made.extend(some_hand(chance, hand, [other for other in hands if other != hand], step))
+    made.extend(chance.sample(made, len(made) // 3))
+    chance.shuffle(made)
+    return made
