@@ -17,7 +17,7 @@ class NoThing(MeetError):
 
 
 class NoPlace(MeetError):
-    """A place at which nothing stands, or that is not ahead of another one."""
+    """A place at which nothing stands, or that is not before another one."""
 
     def __init__(self, place):
         self.place = place
