@@ -69,3 +69,64 @@ def some_list(seed):
     made.extend(chance.sample(made, len(made) // 3))
     chance.shuffle(made)
     return made
+
+
+def add_of(amount, thing=COUNT):
+    return ("add", thing, amount)
+
+
+def step(side, hand, n, k=0):
+    return (side, hand, n, k)
+
+
+def write(hand, n, signs, under=(), side=1, thing=COUNT, **others):
+    return deed(hand, n, ("write", thing, under, side, signs), **others)
+
+
+# One act of each word.
+ACTS = [
+    ("make", "map", ("", 0), "key"),
+    ("make", "text", ("ann", 1), ((), 1)),
+    ("move", ("bob", 1), ("", 0), "key"),
+    ("drop", ("bob", 1)),
+    ("add", COUNT, 3),
+    ("choose", COUNT, 3),
+    ("put", COUNT, 3),
+    ("take", COUNT, 3),
+    ("write", COUNT, (), 1, "new"),
+    ("cut", COUNT, ((step(1, "ann", 1),), (step(1, "ann", 2),))),
+    ("mark", COUNT, (step(1, "ann", 1),), (step(1, "zoe", 9),), "bold"),
+    ("clear", COUNT, (step(1, "ann", 1),), (step(1, "zoe", 9),), "bold"),
+    ("back", 1, 9),
+    ("settle",),
+]
+
+
+def some_step(chance, side=None):
+    side = side or chance.choice([-1, 1])
+    return (side, chance.choice(["a", "ann", "bob"]), chance.choice([1, 2, 10]), chance.choice([0, 1, 10, 11]))
+
+
+def some_places(chance, count):
+    """Places that often share their first steps, each once."""
+    made = [(some_step(chance, 1),) for turn in range(3)]
+    while len(made) < count:
+        under = chance.choice(made)
+        made.append(under[:chance.randint(1, len(under))] + (some_step(chance),))
+    return list(dict.fromkeys(made))
+
+
+def chain(hand, length):
+    """A place of many steps, each the sign behind the one ahead of it."""
+    return tuple(step(1, hand, 1 + k // 12, k % 12) for k in range(length))
+
+
+def before_by_words(one, other):
+    """The words of [16], one by one."""
+    for mine, theirs in zip(one, other):
+        for part, facing in zip(mine, theirs):
+            if part != facing:
+                return part < facing
+    if len(one) > len(other):
+        return one[len(other)][0] == -1
+    return len(one) < len(other) and other[len(one)][0] == 1

@@ -41,6 +41,9 @@ STATEMENTS = (ast.FunctionDef, ast.ClassDef, ast.Assign, ast.AugAssign, ast.If, 
 EXPRESSIONS = (ast.Constant, ast.List, ast.Tuple, ast.Dict, ast.Set, ast.BinOp, ast.UnaryOp, ast.BoolOp,
                ast.Compare, ast.IfExp, ast.Call, ast.Attribute, ast.Subscript, ast.Slice, ast.ListComp,
                ast.JoinedStr, ast.FormattedValue, ast.Name, ast.Lambda)
+KEY_NAMES = "len int str abs sum min max tuple".split()
+READERS = "get items keys values copy index count".split()
+CHANGERS = "append clear extend insert pop remove reverse setdefault update".split()
 PLAIN = (ast.Constant, ast.List, ast.Tuple, ast.Dict, ast.Name, ast.UnaryOp, ast.USub, ast.Load)
 
 
@@ -74,6 +77,17 @@ def methods_of(trees):
             for item in node.body if isinstance(item, ast.FunctionDef)}
 
 
+def classes_of(trees):
+    """All classes of the package."""
+    return {node.name for tree in trees.values() for node in ast.walk(tree) if isinstance(node, ast.ClassDef)}
+
+
+def stores_of(tree):
+    """The lists and dicts of a file's top."""
+    return {node.targets[0].id for node in tree.body
+            if isinstance(node, ast.Assign) and isinstance(node.value, (ast.List, ast.Dict))}
+
+
 def values_of(trees):
     """All values that the package's objects are given."""
     return {node.attr for tree in trees.values() for node in ast.walk(tree)
@@ -91,6 +105,8 @@ class Checker:
         self.trees = {name: ast.parse(text) for name, text in files.items()}
         self.methods = methods_of(self.trees)
         self.values = values_of(self.trees)
+        self.classes = classes_of(self.trees)
+        self.stores = set()
 
     def fault(self, rule, node, words):
         line = node if isinstance(node, int) else getattr(node, "lineno", 0)
@@ -101,6 +117,7 @@ class Checker:
             tree = self.trees[self.file]
             self.check_text(self.files[self.file])
             self.check_top(tree)
+            self.stores = stores_of(tree)
             self.parents = {part: node for node in ast.walk(tree) for part in ast.iter_child_nodes(node)}
             for node in ast.walk(tree):
                 self.check_node(node)
@@ -182,6 +199,8 @@ class Checker:
             self.fault("L6", node, "a value by itself")
         elif isinstance(node, (ast.For, ast.While)) and node.orelse:
             self.fault("L6", node, "else behind a loop")
+        elif isinstance(node, ast.For):
+            self.check_loop(node)
         elif isinstance(node, ast.Try):
             self.check_try(node)
         elif isinstance(node, ast.Raise) and not isinstance(node.exc, ast.Call):
@@ -193,8 +212,24 @@ class Checker:
         for handler in node.handlers:
             kinds = handler.type.elts if isinstance(handler.type, ast.Tuple) else [handler.type]
             for kind in kinds:
-                if not isinstance(kind, ast.Name) or kind.id in ("Exception", "TypeError"):
+                # Narrower than the rule: of Python's own, those that may be taken round anything.
+                known = isinstance(kind, ast.Name) and kind.id in self.classes | {"KeyError", "ZeroDivisionError"}
+                if not known:
                     self.fault("L19", handler, "no error class that may be taken")
+
+    def check_loop(self, node):
+        walked = node.iter
+        while isinstance(walked, ast.Call) and (called(walked) in WALKED or isinstance(walked.func, ast.Attribute)):
+            walked = walked.args[0] if called(walked) in WALKED else walked.func.value
+        walked = ast.dump(walked).replace("Store()", "Load()")
+        for part in ast.walk(ast.Module(node.body, [])):
+            target = None
+            if isinstance(part, ast.Call) and isinstance(part.func, ast.Attribute) and part.func.attr in CHANGERS:
+                target = part.func.value
+            elif isinstance(part, ast.Subscript) and isinstance(part.ctx, ast.Store):
+                target = part.value
+            if target is not None and ast.dump(target) == walked:
+                self.fault("L23", part, "what is walked is changed")
 
     def check_import(self, node):
         known = {name[:-3]: name for name in self.files}
@@ -239,6 +274,8 @@ class Checker:
             self.check_name(node, node.id)
             if node.id in dir(builtins) and node.id not in OWN_NAMES:
                 self.fault("L8", node, node.id)
+            if isinstance(node.ctx, ast.Load):
+                self.check_kept(node)
         elif isinstance(node, ast.Attribute):
             self.check_attribute(node)
         elif isinstance(node, ast.Constant):
@@ -262,6 +299,29 @@ class Checker:
             self.fault("L12", node, name)
         if name in UNUSED_ANYWHERE or name in UNUSED_NAMES:
             self.fault("L17", node, name)
+
+    def check_kept(self, node):
+        """Classes and Python's own names are called where they stand; stores of the top are only read."""
+        parent = self.parents[node]
+        if isinstance(parent, ast.Tuple) and called(self.parents[parent]) == "isinstance":
+            parent = self.parents[parent]
+        on_the_spot = isinstance(parent, ast.Call) and parent.func is node or called(parent) == "isinstance"
+        taken = isinstance(parent, (ast.ExceptHandler, ast.ClassDef))
+        if node.id in self.classes | ERROR_NAMES:
+            begun = isinstance(parent, ast.Attribute) and parent.attr == "__init__"
+            listed = isinstance(parent, ast.Tuple) and isinstance(self.parents[parent], ast.ExceptHandler)
+            if not (on_the_spot or taken or begun or listed):
+                self.fault("L18", node, f"the class {node.id} is kept or handed on")
+        elif node.id in OWN_NAMES:
+            keyed = isinstance(parent, ast.keyword) and parent.arg == "key" and node.id in KEY_NAMES
+            if not (on_the_spot or keyed):
+                self.fault("L22", node, f"{node.id} is kept or handed on")
+        elif node.id in self.stores:
+            asked = isinstance(parent, ast.Subscript) and isinstance(parent.ctx, ast.Load) and parent.value is node
+            asked = asked or isinstance(parent, (ast.Compare, ast.For, ast.comprehension))
+            asked = asked or isinstance(parent, ast.Attribute) and parent.attr in READERS
+            if not (asked or called(parent) in OWN_NAMES):
+                self.fault("L15", node, f"{node.id} is changed, handed on or given back")
 
     def check_attribute(self, node):
         name = node.attr
@@ -378,7 +438,14 @@ class TestTheChecker(unittest.TestCase):
 
     GOOD = (
         '"""A file."""\n\nROOT = ("", 0)\n\n\n'
-        'def told(rows):\n    """Tell."""\n    return sorted(set(rows)) + list(enumerate(rows))\n'
+        'def told(rows):\n    """Tell."""\n    return sorted(set(rows)) + list(enumerate(rows))\n\n\n'
+        'READERS = {"told": told}\n\n\n'
+        'class Rows:\n    def __init__(self, rows):\n        self.kept = list(rows)\n\n\n'
+        'def read(kind, rows):\n    """Read."""\n    for row in list(rows):\n        rows.append(row)\n'
+        '    if kind in READERS and isinstance(rows, (list, Rows)):\n'
+        '        return READERS[kind](sorted(rows, key=len))\n'
+        '    try:\n        return Rows(READERS.get(kind))\n'
+        '    except KeyError as error:\n        raise ValueError("no") from error\n'
     )
 
     BAD = [
@@ -410,17 +477,29 @@ class TestTheChecker(unittest.TestCase):
         ("L14", "X = 'caf\u00e9'\n"),
         ("L15", "X = 1\nX = 2\n"),
         ("L15", "X = [[1]]\n"),
+        ("L15", "X = [1]\n\n\ndef f():\n    return X\n"),
+        ("L15", "X = {1: 2}\n\n\ndef f():\n    X[1] = 3\n"),
+        ("L15", "X = [1]\n\n\ndef f():\n    X.append(1)\n"),
         ("L15", "def f(min):\n    return min\n"),
         ("L15", "from copymeet.good import told\n\n\ndef f(told):\n    return told\n"),
         ("L16", "from copymeet.good import missing\n"),
         ("L17", "# the type of it\nX = 1\n"),
         ("L17", "def f(x):\n    return getattr(x, 'y')\n"),
         ("L18", "class A:\n    def x(self):\n        self.x = 1\n"),
+        ("L18", "class A:\n    pass\n\n\ndef f():\n    return A\n"),
+        ("L18", "class A:\n    pass\n\n\ndef f():\n    return [A, 1]\n"),
         ("L19", "def f(x):\n    try:\n        return x[0]\n    except Exception:\n        return 1\n"),
+        ("L19", "def f(x):\n    try:\n        return f(x)\n    except ValueError:\n        return 1\n"),
         ("L20", "def f(x):\n    return x is 1\n"),
         ("L21", "def f(x: int):\n    return x\n"),
         ("L22", "def f(x):\n    return int(x, base=2)\n"),
+        ("L22", "def f(x):\n    y = len\n    return y(x)\n"),
+        ("L22", "def f(x):\n    return sorted(x, key=repr)\n"),
         ("L23", "def f(x):\n    y = x.items()\n    return y\n"),
+        ("L23", "def f(x):\n    for y in x:\n        x.append(y)\n"),
+        ("L23", "def f(x):\n    for y in x.keys():\n        x.pop(y)\n"),
+        ("L23", "def f(x):\n    for k, y in enumerate(x):\n        x[k] = y\n"),
+        ("L23", "class A:\n    def f(self):\n        for y in self.x:\n            self.x.pop(y)\n"),
         ("L23", "def f(x):\n    return enumerate(x)\n"),
         ("L24", "def f(x):\n    y = set(x)\n    return 1 in y\n"),
         ("L24", "def f(x):\n    for y in set(x) - set([1]):\n        return y\n"),
