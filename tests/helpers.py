@@ -130,3 +130,20 @@ def before_by_words(one, other):
     if len(one) > len(other):
         return one[len(other)][0] == -1
     return len(one) < len(other) and other[len(one)][0] == 1
+
+
+def mark(hand, n, first, last, word="bold", thing=COUNT, **others):
+    return deed(hand, n, ("mark", thing, first, last, word), **others)
+
+
+def clear(hand, n, first, last, word="bold", thing=COUNT, **others):
+    return deed(hand, n, ("clear", thing, first, last, word), **others)
+
+
+def cut(hand, n, places, thing=COUNT, **others):
+    return deed(hand, n, ("cut", thing, tuple(places)), **others)
+
+
+def within_by_words(place, first, last):
+    """The words of [22]."""
+    return not before_by_words(place, first) and not before_by_words(last, place)
