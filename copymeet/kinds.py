@@ -1,7 +1,18 @@
-"""The kinds of things, and the leaf of each."""
+"""The leaf of each kind of thing, and the acts that are for one kind alone."""
 
 from copymeet.leaves import Bag, Choice, Count
 from copymeet.texts import Text
+
+KIND_FOR = {
+    "add": "count",
+    "choose": "choice",
+    "put": "bag",
+    "take": "bag",
+    "write": "text",
+    "cut": "text",
+    "mark": "text",
+    "clear": "text",
+}
 
 
 def leaf_of(kind):
@@ -15,3 +26,8 @@ def leaf_of(kind):
     if kind == "text":
         return Text()
     return None
+
+
+def kind_for(word):
+    """Tell the kind of the things that acts of this word are for, None where they are for no one kind."""
+    return KIND_FOR.get(word)

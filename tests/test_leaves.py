@@ -5,7 +5,7 @@ import random
 import unittest
 
 from copymeet.leaves import Bag, Choice, Count, Leaf
-from tests.helpers import ACTS, BIG, COUNT, GREAT_AMOUNT, add_of, deed
+from tests.helpers import ACTS, BIG, COUNT, GREAT_AMOUNT, add_of, covers_by_words, deed
 
 THING = ("zoe", 7)
 
@@ -26,10 +26,6 @@ def put(hand, n, number, **others):
 
 def take(hand, n, number, **others):
     return deed(hand, n, ("take", THING, number), **others)
-
-
-def covered(seen, name):
-    return any(hand == name[0] and name[1] <= n for hand, n in seen)
 
 
 def some_deeds(chance, words):
@@ -178,7 +174,7 @@ class TestChoice(unittest.TestCase):
             choice, rows = Choice(), []
             for one in some_deeds(chance, ["choose"]):
                 choice.hear(one)
-                rows = [row for row in rows if not covered(one[1], row[0])] + [(one[0], one[2][2])]
+                rows = [row for row in rows if not covers_by_words(one[1], row[0])] + [(one[0], one[2][2])]
                 self.assertEqual(choice.content(), rows)
                 self.assertEqual(choice.told(), sorted({number for name, number in rows}))
                 sizes.add(len(rows))
@@ -247,7 +243,7 @@ class TestBag(unittest.TestCase):
                 if one[2][0] == "put":
                     rows = rows + [(one[0], number)]
                 else:
-                    left = [row for row in rows if not (row[1] == number and covered(one[1], row[0]))]
+                    left = [row for row in rows if not (row[1] == number and covers_by_words(one[1], row[0]))]
                     taken += len(rows) - len(left)
                     rows = left
                 self.assertEqual(bag.content(), rows)

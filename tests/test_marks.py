@@ -7,7 +7,8 @@ import unittest
 
 from copymeet.marks import Marks, within
 from copymeet.places import places_of
-from tests.helpers import chain, clear, mark, some_places, step, within_by_words, write
+from tests.helpers import (
+    chain, clear, mark, marks_by_words, some_places, step, within_by_words, words_by_words, write)
 
 # Five signs of one write, and places before, between and behind them.
 A, B, C, D, E = places_of(write("mia", 1, "abcde"))
@@ -25,28 +26,6 @@ def heard(deeds):
         else:
             marks.clear(one)
     return marks
-
-
-def rows_by_words(deeds):
-    """The words of [23], one by one."""
-    rows = []
-    for name, seen, (word, thing, first, last, told) in deeds:
-        if word == "mark":
-            rows.append((name, first, last, told, []))
-        else:
-            for row in rows:
-                if row[3] == told and any(hand == row[0][0] and row[0][1] <= n for hand, n in seen):
-                    row[4].append((first, last))
-    return rows
-
-
-def words_by_words(rows, place):
-    """The words of [24]."""
-    told = set()
-    for name, first, last, word, holes in rows:
-        if within_by_words(place, first, last) and not any(within_by_words(place, *hole) for hole in holes):
-            told.add(word)
-    return sorted(told)
 
 
 def some_marks(chance, places):
@@ -202,7 +181,7 @@ class TestClears(unittest.TestCase):
         for turn in range(150):
             places = some_places(chance, 12)
             deeds = some_marks(chance, places)
-            marks, rows = heard(deeds), rows_by_words(deeds)
+            marks, rows = heard(deeds), marks_by_words(deeds)
             self.assertEqual(marks.rows(), rows)
             holes += sum(len(row[4]) for row in rows)
             for place in places:
@@ -235,7 +214,7 @@ class TestFilling(unittest.TestCase):
                     else:
                         marks.clear(late)
             self.assertEqual(other.rows(), one.rows())
-            self.assertEqual(other.rows(), rows_by_words(deeds))
+            self.assertEqual(other.rows(), marks_by_words(deeds))
 
 
 class TestTheAskersOwn(unittest.TestCase):

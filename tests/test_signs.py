@@ -1,13 +1,12 @@
 """Points 20 and 21, and points 2 and 3 as far as signs go."""
 
 import copy
-import functools
 import random
 import unittest
 
 from copymeet.places import before, gap, places_of
 from copymeet.signs import Signs
-from tests.helpers import before_by_words, chain, step, write
+from tests.helpers import by_places, chain, step, write
 
 
 def written(deeds):
@@ -19,13 +18,6 @@ def written(deeds):
 
 def shown(signs):
     return "".join(sign for place, sign in signs.rows())
-
-
-def by_places(rows):
-    """The rows sorted by the words of [16]."""
-    def compared(one, other):
-        return -1 if before_by_words(one[0], other[0]) else 1
-    return sorted(rows, key=functools.cmp_to_key(compared))
 
 
 def some_writing(chance, signs, kept, turn):
@@ -182,7 +174,7 @@ class TestOrder(unittest.TestCase):
             one = write(chance.choice(["a", "bob", "zoe"]), n, "abcdefghijkl"[:chance.randint(1, 12)], under, side)
             deeds.append(one)
             unders += places_of(one)
-        rows = by_places([row for one in deeds for row in zip(places_of(one), one[2][4])])
+        rows = by_places([row for one in deeds for row in zip(places_of(one), one[2][4])], lambda row: row[0])
         for turn in range(5):
             chance.shuffle(deeds)
             self.assertEqual(written(deeds).rows(), rows)

@@ -1,13 +1,12 @@
 """Points 26 to 28, and points 2 and 3 as far as trees go."""
 
 import copy
-import functools
 import random
 import unittest
 
 from copymeet.deeds import ROOT
 from copymeet.tree import Tree
-from tests.helpers import before_by_words, chain, deed, step
+from tests.helpers import TreeByWords, chain, deed, step
 
 KINDS = ["map", "row", "count", "choice", "bag", "text"]
 MAP, ROW, COUNT = ("ann", 1), ("ann", 2), ("ann", 3)
@@ -40,60 +39,6 @@ def small_tree():
 def nest(depth):
     """Maps within one another, ann.1 in ROOT, each other one in the one ahead of it."""
     return heard([make(("ann", n), "map", ("ann", n - 1) if n > 1 else ROOT) for n in range(1, depth + 1)])
-
-
-class Model:
-    """The words of [26] to [28], slowly: what lies within a thing is looked for from above."""
-
-    def __init__(self):
-        self.kinds, self.spots, self.lost = {ROOT: "map"}, {}, []
-
-    def held_by(self, thing):
-        return [inner for inner, spot in self.spots.items() if spot[0] == thing]
-
-    def below(self, thing):
-        found = [thing]
-        for inner in self.held_by(thing):
-            found += self.below(inner)
-        return found
-
-    def fits(self, holder, spot):
-        return self.kinds.get(holder) == ("map" if type(spot) is str else "row")
-
-    def hear(self, one):
-        name, seen, act = one
-        if act[0] == "make":
-            thing, holder, spot = name, act[2], act[3]
-            if not self.fits(holder, spot):
-                return "idle"
-            self.kinds[name] = act[1]
-        else:
-            thing = act[1]
-            if thing == ROOT or thing not in self.kinds:
-                return "idle"
-            if act[0] == "drop":
-                self.spots[thing] = (None, None)
-                return "done"
-            holder, spot = act[2], act[3]
-            if not self.fits(holder, spot):
-                return "idle"
-            if holder in self.below(thing):
-                self.lost.append(name)
-                return "lost"
-        if type(spot) is tuple:
-            spot = spot[0] + ((spot[1], name[0], name[1], 0),)
-        self.spots[thing] = (holder, spot)
-        return "done"
-
-    def rows(self):
-        return [(thing, self.kinds[thing]) + self.spots[thing] for thing in sorted(self.spots)]
-
-    def within(self, thing):
-        def compared(one, other):
-            if self.kinds[thing] == "row":
-                return -1 if before_by_words(self.spots[one][1], self.spots[other][1]) else 1
-            return -1 if (self.spots[one][1], one) < (self.spots[other][1], other) else 1
-        return sorted(self.held_by(thing), key=functools.cmp_to_key(compared))
 
 
 def some_spot(chance, kind, places):
@@ -393,7 +338,7 @@ class TestByTheWords(unittest.TestCase):
         chance = random.Random(51)
         fates = []
         for turn in range(150):
-            tree, model = Tree(), Model()
+            tree, model = Tree(), TreeByWords()
             for one in some_tree_deeds(chance, 30):
                 fates.append(tree.hear(one))
                 self.assertEqual(fates[-1], model.hear(one), one)
