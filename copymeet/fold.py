@@ -56,6 +56,12 @@ class Folding:
         """Tell the content of a thing's leaf, None where it has none."""
         return self.leaves[thing].content() if thing in self.leaves else None
 
+    def places_in(self, thing):
+        """Tell the places of what stands in a row or in a text, in order."""
+        if thing in self.leaves:
+            return self.leaves[thing].places()
+        return [self.tree.held(inner)[1] for inner in self.tree.within(thing)]
+
     def told(self):
         """Tell what hangs from ROOT."""
         tellings = {}

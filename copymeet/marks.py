@@ -1,7 +1,7 @@
 """Marks over stretches of a text, and the holes that clears make in them."""
 
 from copymeet.deeds import covers
-from copymeet.places import before
+from copymeet.places import before, rank_of
 
 
 def within(place, first, last):
@@ -9,12 +9,23 @@ def within(place, first, last):
     return not before(place, first) and not before(last, place)
 
 
-def bears(mark, place):
-    """Tell whether a mark is told at the place: within its ends, and within no hole of its own."""
-    name, first, last, word, holes = mark
-    if not within(place, first, last):
-        return False
-    return not any([within(place, hole[0], hole[1]) for hole in holes])
+def spans_of(mark):
+    """Tell the ends of a mark, and behind them those of its holes."""
+    return [(mark[1], mark[2])] + list(mark[4])
+
+
+def numbered(places):
+    """Tell by places the number of each in their order; some may be told twice."""
+    numbers = {}
+    for place in sorted(places, key=rank_of):
+        numbers.setdefault(place, len(numbers))
+    return numbers
+
+
+def bears(spans, number):
+    """Tell whether a mark is told at the place of this number: within its ends, and within no hole of its own."""
+    inside = [first <= number <= last for first, last in spans]
+    return inside[0] and not any(inside[1:])
 
 
 def holed(mark, deed):
@@ -44,7 +55,29 @@ class Marks:
 
     def words_at(self, place):
         """Tell the words told at a place, rising, each once."""
-        return sorted(set([mark[3] for mark in self.standing if bears(mark, place)]))
+        return self.words_along([place])[0]
+
+    def words_along(self, places):
+        """Tell for each of some places the words told at it."""
+        # Long places take long to compare. So all are put in order once, and numbers are compared from then on.
+        numbers = numbered(places + self.ends())
+        marks = []
+        for mark in self.standing:
+            marks.append((mark[3], [(numbers[first], numbers[last]) for first, last in spans_of(mark)]))
+        words = []
+        for place in places:
+            number = numbers[place]
+            words.append(sorted(set([word for word, spans in marks if bears(spans, number)])))
+        return words
+
+    def ends(self):
+        """Tell all places at which a mark or a hole begins or ends, each once."""
+        found = {}
+        for mark in self.standing:
+            for first, last in spans_of(mark):
+                found[first] = True
+                found[last] = True
+        return list(found)
 
     def rows(self):
         """Tell rows (name, first, last, word, holes), holes a list, as fill takes them."""

@@ -23,6 +23,10 @@ class Signs:
                 gone.append((place, self.kept.pop(place)))
         return sorted(gone, key=row_rank)
 
+    def stands_at(self, place):
+        """Tell whether a sign stands at the place."""
+        return place in self.kept
+
     def rows(self):
         """Tell rows (place, sign) in the order of their places."""
         return sorted(self.kept.items(), key=row_rank)

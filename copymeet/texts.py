@@ -23,8 +23,17 @@ class Text(Leaf):
         elif word == "clear":
             self.marks.clear(deed)
 
+    def stands_at(self, place):
+        """Tell whether a sign stands at the place."""
+        return self.signs.stands_at(place)
+
+    def places(self):
+        """Tell the places at which signs stand, in order."""
+        return [place for place, sign in self.signs.rows()]
+
     def told(self):
-        return [(place, sign, self.marks.words_at(place)) for place, sign in self.signs.rows()]
+        words = self.marks.words_along(self.places())
+        return [(row[0], row[1], words[k]) for k, row in enumerate(self.signs.rows())]
 
     def content(self):
         return (self.signs.rows(), self.marks.rows())

@@ -3,6 +3,9 @@
 import functools
 import random
 
+from copymeet.errors import MeetError
+from copymeet.force import in_force
+
 ROOT = ("", 0)
 COUNT = ("ann", 1)
 BIG = 10 ** 12 - 1
@@ -454,3 +457,119 @@ def shuffled(seed, deeds):
     made = list(deeds) + chance.sample(list(deeds), len(deeds) // 3)
     chance.shuffle(made)
     return made
+
+
+def refused(doing, *given):
+    """What a call is refused with, as (the error's class by name, its fields), or None where it is not."""
+    try:
+        doing(*given)
+    except MeetError as error:
+        return (type(error).__name__, vars(error))
+    return None
+
+
+class DeskByWords:
+    """The words of [37] to [41], slowly: all deeds are kept, and all is folded anew at each asking."""
+
+    def __init__(self, hand, hands):
+        self.hand, self.hands = hand, list(hands)
+        self.taken, self.early, self.thrown = {}, {}, {}
+
+    def deeds(self):
+        return ordered_by_words(self.taken.values())
+
+    def fold(self):
+        return FoldByWords(in_force(self.deeds()))
+
+    def seen(self):
+        numbers = {}
+        for hand, n in self.taken:
+            numbers[hand] = max(n, numbers.get(hand, 0))
+        return tuple(sorted(numbers.items()))
+
+    def has_all(self, seen):
+        return all((hand, k) in self.taken for hand, n in seen for k in range(1, n + 1))
+
+    def hear(self, deeds):
+        for one in deeds:
+            if one[0] not in self.taken:
+                self.early[one[0]] = one
+        heard, ready = [], True
+        while ready:
+            ready = [one for one in self.early.values() if self.has_all(one[1])]
+            for one in ready:
+                self.taken[one[0]] = self.early.pop(one[0])
+                heard.append(one)
+        return [one[0] for one in ordered_by_words(heard)]
+
+    def do(self, act):
+        n = len([name for name in self.taken if name[0] == self.hand]) + 1
+        one = ((self.hand, n), self.seen(), act)
+        self.taken[one[0]] = one
+        return one
+
+    def refusal(self, act):
+        """What has to be refused, as refused tells it."""
+        fold = self.fold()
+        word = act[0]
+        if word in ("move", "drop") and act[1] not in fold.spots:
+            return ("NoThing", {"thing": act[1]})
+        if word in KIND_OF_ACT and fold.kinds.get(act[1]) != KIND_OF_ACT[word]:
+            return ("NoThing", {"thing": act[1]})
+        if word in ("make", "move") and not fold.fits(act[2], act[3]):
+            return ("NoThing", {"thing": act[2]})
+        if word == "move" and act[2] in fold.below(act[1]):
+            return ("Ring", {"things": fold.way_up(act[1], act[2])})
+        if word in ("cut", "mark", "clear"):
+            return self.refused_place(act, dict(fold.content(act[1])[0]))
+        return self.refused_back(act) if word == "back" else None
+
+    def refused_place(self, act, standing):
+        places = act[2] if act[0] == "cut" else act[2:4]
+        missing = [place for place in places if place not in standing]
+        if not missing and act[0] != "cut" and before_by_words(act[3], act[2]):
+            missing = [act[2]]
+        return ("NoPlace", {"place": missing[0]}) if missing else None
+
+    def refused_back(self, act):
+        own = [one for one in self.taken.values() if one[0][0] == self.hand]
+        settles = [one[0][1] for one in own if one[2] == ("settle",)]
+        if not 1 <= act[1] <= act[2] <= len(own):
+            return ("NoDeed", {})
+        return ("Settled", {"number": max(settles)}) if settles and act[1] <= max(settles) else None
+
+    def lacks(self, seen):
+        """The deeds, or a refusal as refused tells it."""
+        missing = sorted(name for name in self.thrown if not covers_by_words(seen, name))
+        if missing:
+            return ("Swept", {"deed": missing[0]})
+        held = [one for one in self.deeds() if one[0] not in self.thrown]
+        return [one for one in held if not covers_by_words(seen, one[0])]
+
+
+def last_by_words(hand, deeds):
+    own = [one for one in deeds if one[0][0] == hand]
+    return max(own, key=lambda one: one[0][1]) if own else None
+
+
+def knows_by_words(hand, deeds, name):
+    """The words of [34]."""
+    last = last_by_words(hand, deeds)
+    return last is not None and (covers_by_words(last[1], name) or last[0][0] == name[0] and name[1] <= last[0][1])
+
+
+def bound_by_words(hands, deeds):
+    """The words of [34]."""
+    lasts = [last_by_words(hand, [one for one in deeds if one[2] == ("settle",)]) for hand in hands]
+    return 0 if None in lasts else min(stamp_by_words(one) for one in lasts)
+
+
+def sunk_by_words(hands, deeds):
+    """The words of [35]."""
+    low = [one for one in ordered_by_words(deeds) if stamp_by_words(one) <= bound_by_words(hands, deeds)]
+    return [one[0] for one in low if all(knows_by_words(hand, deeds, one[0]) for hand in hands)]
+
+
+def settled_by_words(hands, deeds):
+    """The words of [35]."""
+    return [one for one in in_force(deeds) if stamp_by_words(one) <= bound_by_words(hands, deeds)]

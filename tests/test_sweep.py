@@ -6,37 +6,10 @@ from copymeet.deeds import covers
 from copymeet.force import in_force
 from copymeet.sweep import bound, known, settled, sunk
 from tests.helpers import (
-    History, add, back, covers_by_words, deed, names, ordered_by_words, settle, shuffled, stamp_by_words)
+    History, add, back, bound_by_words, deed, knows_by_words, names, settle, settled_by_words, shuffled, stamp_by_words,
+    sunk_by_words)
 
 BOTH = ["ann", "bob"]
-
-
-def last_by_words(hand, deeds):
-    own = [one for one in deeds if one[0][0] == hand]
-    return max(own, key=lambda one: one[0][1]) if own else None
-
-
-def knows_by_words(hand, deeds, name):
-    """The words of [34]."""
-    last = last_by_words(hand, deeds)
-    return last is not None and (covers_by_words(last[1], name) or last[0][0] == name[0] and name[1] <= last[0][1])
-
-
-def bound_by_words(hands, deeds):
-    """The words of [34]."""
-    stamps = []
-    for hand in hands:
-        last = last_by_words(hand, [one for one in deeds if one[2] == ("settle",)])
-        if last is None:
-            return 0
-        stamps.append(stamp_by_words(last))
-    return min(stamps)
-
-
-def sunk_by_words(hands, deeds):
-    """The words of [35]."""
-    low = [one for one in ordered_by_words(deeds) if stamp_by_words(one) <= bound_by_words(hands, deeds)]
-    return [one[0] for one in low if all(knows_by_words(hand, deeds, one[0]) for hand in hands)]
 
 
 def some_settling_history(seed, rounds=4):
@@ -173,13 +146,12 @@ class TestByTheWords(unittest.TestCase):
         sizes = []
         for seed in range(100):
             hands, deeds = some_settling_history(seed)
-            highest = bound_by_words(hands, deeds)
-            self.assertEqual(bound(hands, deeds), highest)
+            self.assertEqual(bound(hands, deeds), bound_by_words(hands, deeds))
             for hand in hands:
                 for one in deeds:
                     self.assertEqual(covers(known(hand, deeds), one[0]), knows_by_words(hand, deeds, one[0]))
             self.assertEqual(sunk(hands, deeds), sunk_by_words(hands, deeds))
-            self.assertEqual(settled(hands, deeds), [one for one in in_force(deeds) if stamp_by_words(one) <= highest])
+            self.assertEqual(settled(hands, deeds), settled_by_words(hands, deeds))
             sizes.append(len(sunk(hands, deeds)))
         self.assertGreater(len([size for size in sizes if size > 5]), 30)
 
