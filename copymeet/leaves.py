@@ -13,6 +13,7 @@ class Leaf:
 
     def hear(self, deed):
         """Hear a deed; one whose act the leaf's kind doesn't know changes nothing."""
+        return None
 
     def told(self):
         """Tell what is kept, as a reading shows it."""
@@ -24,6 +25,7 @@ class Leaf:
 
     def fill(self, content):
         """Keep just this content from now on."""
+        return None
 
 
 class Count(Leaf):
